@@ -1,0 +1,1 @@
+"""Heardagain: what comes again in scores of notes."""

@@ -1,0 +1,1 @@
+"""The tests of heardagain; run them by python3 -m unittest discover -s tests -t ."""

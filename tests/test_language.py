@@ -1,0 +1,174 @@
+"""The files of the package keep to the plainer ones of the rules in LANGUAGE.md, and hold the interface of DOC.md."""
+
+import ast
+import builtins
+import importlib
+import pathlib
+import re
+import unittest
+
+FOLDER = pathlib.Path(__file__).resolve().parent.parent / "heardagain"
+FILES = sorted(FOLDER.glob("*.py"))
+
+INTERFACE = {
+    "scores": {"is_note": ["value"], "score_error": ["value"], "points_of": ["score"], "voices_of": ["score"],
+               "notes_at": ["score", "point"]},
+    "points": {"points_error": ["value"], "figure_error": ["value"]},
+}
+
+LET_BUILTINS = """
+    len range enumerate zip min max sum abs sorted reversed int str bool bytes list tuple dict set frozenset isinstance
+    ord repr any all divmod pow getattr hasattr setattr iter next map Exception ValueError TypeError KeyError IndexError
+    LookupError ZeroDivisionError ArithmeticError OverflowError RuntimeError NotImplementedError AttributeError
+    StopIteration NotImplemented property staticmethod classmethod super
+""".split()
+LET_METHODS = """
+    append clear copy count endswith extend find get index insert isalnum isalpha isdigit islower isspace isupper items
+    join keys ljust lower lstrip partition pop remove replace reverse rfind rjust rpartition rsplit rstrip setdefault
+    split splitlines startswith strip update upper values zfill bit_length isascii isdecimal
+""".split()
+LET_LIBRARY = {"heapq": ("heappush", "heappop", "heapify"), "math": ("gcd", "lcm", "isqrt", "comb"),
+               "itertools": ("product", "combinations", "permutations")}
+BARRED_NODES = (ast.GeneratorExp, ast.Global, ast.AsyncFunctionDef, ast.Await, ast.Div, ast.Import)
+BARRED_WORDS = ("type", "typing", "enum", "Enum", "Generic", "Protocol", "ABC", "namedtuple", "open", "input", "law",
+                "register", "mro", "elements", "chr", "eval", "exec", "compile", "vars", "dir", "help", "id", "os", "sys")
+
+
+def tree_of(path):
+    """Return the tree of a file."""
+    return ast.parse(path.read_text(encoding="ascii"))
+
+
+def defined(tree):
+    """Return the names that a file itself binds at module level."""
+    names = []
+    for node in tree.body:
+        if isinstance(node, (ast.FunctionDef, ast.ClassDef)):
+            names.append(node.name)
+        elif isinstance(node, ast.Assign):
+            names.extend([target.id for target in node.targets])
+    return names
+
+
+def imported(tree):
+    """Return the pairs of a module and a name that a file imports."""
+    return [(node.module, one.name) for node in tree.body if isinstance(node, ast.ImportFrom) for one in node.names]
+
+
+class FilesTest(unittest.TestCase):
+    def test_folder(self):
+        found = [path.name for path in FOLDER.iterdir() if path.name != "__pycache__"]
+        self.assertIn("__init__.py", found)
+        for name in found:
+            self.assertRegex(name, r"^[a-z_][a-z0-9_]*\.py$")
+
+    def test_size_and_signs(self):
+        for path in FILES:
+            text = path.read_text(encoding="ascii")
+            self.assertRegex(text, r"\A[ -~\n]*\Z", path)
+            lines = text.splitlines()
+            self.assertLess(len(lines), 400, path)
+            self.assertLessEqual(max([len(line) for line in lines]), 120, path)
+            for node in ast.walk(tree_of(path)):
+                if isinstance(node, ast.FunctionDef):
+                    self.assertLessEqual(node.end_lineno - node.lineno + 1, 40, (path, node.name))
+
+    def test_module_level(self):
+        for path in FILES:
+            tree = tree_of(path)
+            self.assertIsNotNone(ast.get_docstring(tree), path)
+            for node in tree.body[1:]:
+                self.assertIsInstance(node, (ast.ImportFrom, ast.FunctionDef, ast.ClassDef, ast.Assign), path)
+            names = defined(tree) + [name for _, name in imported(tree)]
+            self.assertEqual(sorted(names), sorted(set(names)), path)
+
+    def test_imports(self):
+        homes = {f"heardagain.{path.stem}": defined(tree_of(path)) for path in FILES}
+        for path in FILES:
+            for module, name in imported(tree_of(path)):
+                told = LET_LIBRARY.get(module) or homes.get(module, ())
+                self.assertIn(name, told, (path, module))
+            for node in ast.walk(tree_of(path)):
+                if isinstance(node, ast.ImportFrom):
+                    self.assertEqual((node.level, [one.asname for one in node.names if one.asname]), (0, []), path)
+
+    def test_no_circles(self):
+        above = {f"heardagain.{path.stem}": [module for module, _ in imported(tree_of(path))] for path in FILES}
+        left = dict(above)
+        while left:
+            free = [module for module, needs in left.items() if not [need for need in needs if need in left]]
+            self.assertTrue(free, left)
+            left = {module: needs for module, needs in left.items() if module not in free}
+
+
+class CodeTest(unittest.TestCase):
+    def test_nodes_and_words(self):
+        for path in FILES:
+            for node in ast.walk(tree_of(path)):
+                self.assertNotIsInstance(node, BARRED_NODES, (path, getattr(node, "lineno", 0)))
+                if isinstance(node, ast.Constant):
+                    self.assertNotIsInstance(node.value, (float, complex), path)
+                for name in self.names_of(node):
+                    self.assertNotIn(name, BARRED_WORDS, path)
+                    self.assertRegex(name, r"^(_|_?[A-Za-z][A-Za-z0-9_]*|__[a-z]+__)$", path)
+
+    def names_of(self, node):
+        """Return the names that stand in a node itself."""
+        found = [getattr(node, "id", None), getattr(node, "name", None), getattr(node, "attr", None)]
+        found.append(getattr(node, "arg", None))
+        return [name for name in found if isinstance(name, str)]
+
+    def test_builtins(self):
+        for path in FILES:
+            own = defined(tree_of(path))
+            for node in ast.walk(tree_of(path)):
+                if isinstance(node, ast.Name) and hasattr(builtins, node.id):
+                    self.assertIsInstance(node.ctx, ast.Load, (path, node.id))
+                    self.assertIn(node.id, LET_BUILTINS, path)
+                if isinstance(node, ast.arg):
+                    self.assertFalse(hasattr(builtins, node.arg), (path, node.arg))
+                    self.assertNotIn(node.arg, own, path)
+            for name in own:
+                self.assertFalse(hasattr(builtins, name), (path, name))
+
+    def test_local_names_hide_nothing(self):
+        for path in FILES:
+            tree = tree_of(path)
+            bound = defined(tree) + [name for _, name in imported(tree)]
+            for function in ast.walk(tree):
+                if isinstance(function, ast.FunctionDef):
+                    for node in ast.walk(function):
+                        if isinstance(node, ast.Name) and isinstance(node.ctx, ast.Store):
+                            self.assertNotIn(node.id, bound, (path, function.name))
+
+    def test_methods(self):
+        own = [node.name for path in FILES for shape in ast.walk(tree_of(path)) if isinstance(shape, ast.ClassDef)
+               for node in shape.body if isinstance(node, ast.FunctionDef)]
+        for path in FILES:
+            for node in ast.walk(tree_of(path)):
+                if isinstance(node, ast.Call) and isinstance(node.func, ast.Attribute):
+                    self.assertIn(node.func.attr, LET_METHODS + own, path)
+
+    def test_sets_are_not_iterated(self):
+        # A set is made only to be asked, sorted or measured; each one is written as set(..) or in braces.
+        for path in FILES:
+            for node in ast.walk(tree_of(path)):
+                if isinstance(node, (ast.For, ast.comprehension)):
+                    self.assertNotIsInstance(node.iter, (ast.Set, ast.SetComp), path)
+                    self.assertFalse(re.match(r"(frozen)?set\(", ast.unparse(node.iter)), path)
+
+
+class InterfaceTest(unittest.TestCase):
+    def test_functions_stand_in_their_files(self):
+        for name, functions in INTERFACE.items():
+            tree = tree_of(FOLDER / f"{name}.py")
+            found = {node.name: [one.arg for one in node.args.args] for node in tree.body
+                     if isinstance(node, ast.FunctionDef)}
+            for function, arguments in functions.items():
+                self.assertEqual(found.get(function), arguments, (name, function))
+                module = importlib.import_module(f"heardagain.{name}")
+                self.assertEqual(getattr(module, function).__module__, f"heardagain.{name}")
+
+
+if __name__ == "__main__":
+    unittest.main()

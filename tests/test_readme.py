@@ -1,0 +1,31 @@
+"""The examples of README.md."""
+
+import pathlib
+import unittest
+
+from tests.helper import check_examples
+
+README = pathlib.Path(__file__).resolve().parent.parent / "README.md"
+
+
+def blocks(text):
+    """Return the blocks of indented lines that begin with an example."""
+    found = [[]]
+    for line in text.splitlines():
+        if line.startswith("    "):
+            found[-1].append(line)
+        elif found[-1]:
+            found.append([])
+    return ["\n".join(block) for block in found if block and block[0].startswith("    >>> ")]
+
+
+class ReadmeTest(unittest.TestCase):
+    def test_examples(self):
+        found = blocks(README.read_text(encoding="utf-8"))
+        self.assertTrue(found)
+        for block in found:
+            self.assertGreater(check_examples(self, block), 0)
+
+
+if __name__ == "__main__":
+    unittest.main()
