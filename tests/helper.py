@@ -2,6 +2,8 @@
 
 import copy
 import inspect
+import random
+from fractions import Fraction
 
 from heardagain import errors
 
@@ -21,6 +23,12 @@ ODD_VALUES = (
     (1,), (1, 2, 3), ("a", "b"), (None, None, None, None), (True, True, True, True), ([0, 60], [1, 60]),
     nested(20), (None,) * 4000,
 )
+
+
+STILL = ((1, 1), (0, 1), 1, 0)
+KINDS = ("shift", "flip", "back", "both", "slow", "all")
+NO_KINDS = ODD_VALUES + ("", "SHIFT", "Shift", "shift ", " all", "flips", "bac", "a", "fast", "up", ["shift"], ("all",),
+                         ("shift", "flip"), {"both": 1}, KINDS, True, 0, None)
 
 
 def same(one, two):
@@ -99,3 +107,19 @@ def check_call(case, function, wanted, **told):
             else:
                 case.assertTrue(same(found, wanted), (function, told, found, wanted))
             case.assertTrue(same(told, kept), (function, told, kept))
+
+
+def as_move(q, t, e, v):
+    """Return the move with these numbers."""
+    return (q.numerator, q.denominator), (t.numerator, t.denominator), e, v
+
+
+def some_moves(many, seed):
+    """Return so many moves, of all kinds."""
+    dice = random.Random(seed)
+    found = []
+    while len(found) < many:
+        q = Fraction(dice.choice((1, -1, 1, -1, 2, 3, -3, 5)), dice.choice((1, 1, 1, 2, 3, 4)))
+        t = Fraction(dice.randint(-12, 12), dice.choice((1, 1, 1, 2, 3, 6)))
+        found.append(as_move(q, t, dice.choice((1, -1)), dice.randint(-50, 50)))
+    return found

@@ -14,6 +14,13 @@ INTERFACE = {
     "scores": {"is_note": ["value"], "score_error": ["value"], "points_of": ["score"], "voices_of": ["score"],
                "notes_at": ["score", "point"]},
     "points": {"points_error": ["value"], "figure_error": ["value"]},
+    "scoretexts": {"score_text": ["score"], "read_score": ["value"], "points_text": ["points"], "read_points": ["value"]},
+    "moves": {"fraction_error": ["value"], "move_error": ["value"], "lands": ["move", "point"], "led": ["move", "points"],
+              "behind": ["move", "further"], "undone": ["move"], "is_of": ["kind", "move"]},
+    "figures": {"leads": ["figure", "other", "kind"], "alike": ["figure", "other", "kind"], "normal": ["figure", "kind"]},
+    "places": {"hits": ["score", "figure", "move"], "places": ["score", "figure", "kind", "least"],
+               "whole": ["score", "figure", "kind"], "best": ["score", "figure", "kind"],
+               "tally": ["score", "figure", "kind"]},
 }
 
 LET_BUILTINS = """
@@ -120,15 +127,13 @@ class CodeTest(unittest.TestCase):
 
     def test_builtins(self):
         for path in FILES:
-            own = defined(tree_of(path))
             for node in ast.walk(tree_of(path)):
                 if isinstance(node, ast.Name) and hasattr(builtins, node.id):
                     self.assertIsInstance(node.ctx, ast.Load, (path, node.id))
                     self.assertIn(node.id, LET_BUILTINS, path)
                 if isinstance(node, ast.arg):
                     self.assertFalse(hasattr(builtins, node.arg), (path, node.arg))
-                    self.assertNotIn(node.arg, own, path)
-            for name in own:
+            for name in defined(tree_of(path)):
                 self.assertFalse(hasattr(builtins, name), (path, name))
 
     def test_local_names_hide_nothing(self):
@@ -140,6 +145,8 @@ class CodeTest(unittest.TestCase):
                     for node in ast.walk(function):
                         if isinstance(node, ast.Name) and isinstance(node.ctx, ast.Store):
                             self.assertNotIn(node.id, bound, (path, function.name))
+                        if isinstance(node, ast.arg):
+                            self.assertNotIn(node.arg, bound, (path, function.name))
 
     def test_methods(self):
         own = [node.name for path in FILES for shape in ast.walk(tree_of(path)) if isinstance(shape, ast.ClassDef)

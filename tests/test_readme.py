@@ -21,10 +21,9 @@ def blocks(text):
 
 class ReadmeTest(unittest.TestCase):
     def test_examples(self):
+        # Names that a block sets stand in the further ones.
         found = blocks(README.read_text(encoding="utf-8"))
-        self.assertTrue(found)
-        for block in found:
-            self.assertGreater(check_examples(self, block), 0)
+        self.assertGreaterEqual(check_examples(self, "\n".join(found)), len(found))
 
 
 if __name__ == "__main__":
