@@ -22,3 +22,8 @@ def first_fall(items):
         if items[place] <= items[place - 1]:
             return place
     return None
+
+
+def chosen(items, bits):
+    """Return the items at the places of which there is a bit."""
+    return tuple([item for place, item in enumerate(items) if bits >> place & 1])

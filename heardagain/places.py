@@ -1,6 +1,6 @@
 """Places: where a figure, or a part of it, is heard in a score."""
 
-from heardagain.basics import is_within
+from heardagain.basics import chosen, is_within
 from heardagain.bounds import MAX_PLACES
 from heardagain.errors import TooMany, Unfit
 from heardagain.moves import STRETCHING, check_kind, flips, lands, stretch, turns
@@ -57,17 +57,13 @@ def all_places(heard, figure, kind):
     """
     found = _stretched(heard, figure, kind) if kind in STRETCHING else _shifted(heard, figure, kind)
     # Many moves have the same hits, so these are made once for all of them.
-    groups = {bits: _chosen(figure, bits) for bits in sorted(set(list(found.values())))}
+    groups = {bits: chosen(figure, bits) for bits in sorted(set(list(found.values())))}
     pairs = [(move, groups[bits]) for move, bits in found.items()]
     return [(move, own) for move, own in pairs if own[0][0] != own[-1][0]]
 
 
 def _moves_with(found, many):
     return tuple(sorted([move for move, own in found if len(own) == many]))
-
-
-def _chosen(figure, bits):
-    return tuple([point for place, point in enumerate(figure) if bits >> place & 1])
 
 
 def _shifted(heard, figure, kind):

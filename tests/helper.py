@@ -6,6 +6,8 @@ import random
 from fractions import Fraction
 
 from heardagain import errors
+from heardagain.points import figure_error
+from heardagain.scores import points_of, score_error
 
 
 def nested(deep):
@@ -102,11 +104,11 @@ def check_call(case, function, wanted, **told):
     for _ in range(2):
         for call in (lambda: function(**told), lambda: function(*told.values())):
             found = raised(call)
-            if isinstance(wanted, errors.ScoreError):
-                case.assertTrue(same_error(found, wanted), (function, told, found, wanted))
-            else:
-                case.assertTrue(same(found, wanted), (function, told, found, wanted))
-            case.assertTrue(same(told, kept), (function, told, kept))
+            right = same_error if isinstance(wanted, errors.ScoreError) else same
+            if not right(found, wanted):
+                # What is long is told in part.
+                case.fail(f"{function.__name__} of {told!r:.2000} gave {found!r:.1000}, not {wanted!r:.1000}")
+            case.assertTrue(same(told, kept), (function, "has changed what it was passed"))
 
 
 def as_move(q, t, e, v):
@@ -123,3 +125,100 @@ def some_moves(many, seed):
         t = Fraction(dice.randint(-12, 12), dice.choice((1, 1, 1, 2, 3, 6)))
         found.append(as_move(q, t, dice.choice((1, -1)), dice.randint(-50, 50)))
     return found
+
+
+def score_at(points):
+    """Return the score with a note at each of these points."""
+    return tuple([point + (0, 1) for point in sorted(set(points))])
+
+
+def flat(many, pitch=60):
+    """Return so many points of one pitch."""
+    return [(k, pitch) for k in range(many)]
+
+
+def told_hits(score, figure, move):
+    """Return the points of a figure that come to points of a score, worked out by fractions."""
+    q, t, e, v = move
+    heard = points_of(score)
+    return tuple([(x, y) for x, y in figure if (Fraction(*q) * x + Fraction(*t), e * y + v) in heard])
+
+
+def told_moves(score, figure):
+    """Return all moves by which two points of a figure with unlike onsets come to two points of a score."""
+    found = {}
+    heard = points_of(score)
+    for (x, y), (end, high) in [(a, b) for a in figure for b in figure if a[0] != b[0]]:
+        for (begin, low), (last, top) in [(a, b) for a in heard for b in heard if a[0] != b[0]]:
+            for e in (1, -1):
+                if top - low == e * (high - y):
+                    q = Fraction(last - begin, end - x)
+                    found[as_move(q, begin - q * x, e, low - e * y)] = True
+    return sorted(found)
+
+
+def some_cases(many, seed):
+    """Return so many pairs of a score and a figure that have places of all kinds, chords among them."""
+    dice = random.Random(seed)
+    found = []
+    while len(found) < many:
+        wide, high, step = dice.choice(((6, 4, 1), (8, 3, 1), (5, 3, 2), (12, 2, 1), (4, 6, 3)))
+        points = {(dice.randrange(wide) * dice.choice((1, step)), dice.randrange(high)) for _ in range(dice.randint(0, 9))}
+        figure = tuple(sorted({(dice.randint(-3, 3), dice.randint(-2, 2)) for _ in range(dice.randint(2, 5))}))
+        if dice.random() < 0.3:
+            # The figure itself stands in the score, by some move.
+            q, e = dice.choice((1, 1, 2, -1, -2)), dice.choice((1, 1, -1))
+            points.update([(q * x + 6, e * y + 2) for x, y in figure])
+        score = tuple(sorted({point + (voice, 1 + voice) for point in points for voice in dice.choice(((0,), (1, 3)))}))
+        if figure_error(figure) is None and score_error(score) is None:
+            found.append((score, figure))
+    return found
+
+
+def all_lots(items):
+    """Return all tuples of some of the items, in their order, without ()."""
+    return [tuple([item for place, item in enumerate(items) if bits >> place & 1]) for bits in range(1, 1 << len(items))]
+
+
+def told_shifts(points, lot):
+    """Return all shifts that lead each of a lot of points to one of points."""
+    found = [(x - lot[0][0], y - lot[0][1]) for x, y in points]
+    return tuple([(dx, dy) for dx, dy in found if all((x + dx, y + dy) in points for x, y in lot)])
+
+
+def told_closed(points):
+    """Return all closed pairs of points, by going through all lots of them."""
+    shifts = sorted({(end - x, high - y) for x, y in points for end, high in points})
+    lead = [sum([1 << place for place, (dx, dy) in enumerate(shifts) if (x + dx, y + dy) in points]) for x, y in points]
+    still = 1 << shifts.index((0, 0)) if points else 0
+    own = [(1 << len(shifts)) - 1]
+    found = []
+    for bits in range(1, 1 << len(points)):
+        own.append(own[bits & (bits - 1)] & lead[(bits & -bits).bit_length() - 1])
+        # (0, 0) is the least of them, and there is another one.
+        if own[bits] & -own[bits] == still != own[bits]:
+            kept = [place for place, led_by in enumerate(lead) if led_by & own[bits] == own[bits]]
+            if sum([1 << place for place in kept]) == bits:
+                found.append((tuple([points[place] for place in kept]),
+                              tuple([shift for place, shift in enumerate(shifts) if own[bits] >> place & 1])))
+    return tuple(sorted(found))
+
+
+def some_points(many, seed):
+    """Return so many tuples of at most nine points, in which much comes again."""
+    dice = random.Random(seed)
+    found = [(), ((3, 60),), ((3, 60), (3, 64)), ((3, 60), (5, 60), (7, 60))]
+    while len(found) < many:
+        wide, high = dice.choice(((9, 1), (5, 2), (3, 3), (4, 4), (1, 9), (12, 2), (30, 30)))
+        own = {(dice.randrange(wide), 50 + dice.randrange(high)) for _ in range(dice.randint(2, 9))}
+        if dice.random() < 0.4:
+            far = [(dice.randrange(40), dice.randrange(12)) for _ in range(dice.randint(2, 3))]
+            own = {(x + dx, y + dy) for x, y in sorted(own)[:dice.choice((3, 4))] for dx, dy in far}
+        if len(own) <= 9:
+            found.append(tuple(sorted(own)))
+    return found
+
+
+# Rows of onsets whose points, all of one pitch, have just so many closed pairs.
+JUST_300 = (0, 1, 2, 4, 5, 6, 7, 8, 10, 11, 12, 13, 14, 15, 16, 18, 19)
+JUST_301 = (1, 5, 6, 7, 8, 9, 10, 12, 13, 14, 15, 16, 18, 19, 20, 21, 23)

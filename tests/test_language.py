@@ -21,6 +21,13 @@ INTERFACE = {
     "places": {"hits": ["score", "figure", "move"], "places": ["score", "figure", "kind", "least"],
                "whole": ["score", "figure", "kind"], "best": ["score", "figure", "kind"],
                "tally": ["score", "figure", "kind"]},
+    "placejudge": {"place_error": ["score", "figure", "kind", "least", "value"]},
+    "common": {"common": ["score", "other", "kind"], "shared": ["score", "other", "move"],
+               "likeness": ["score", "other", "kind"], "ranked": ["scores", "score", "kind"], "several": ["scores"]},
+    "closed": {"shifts_of": ["score", "points"], "closed_of": ["score", "points"], "closed_error": ["score", "value"],
+               "closed_pairs": ["score"]},
+    "fronts": {"lies_in": ["pair", "other"], "nearest_in": ["score"], "front": ["score"],
+               "most_points": ["score", "many"], "most_places": ["score", "many"]},
 }
 
 LET_BUILTINS = """

@@ -2,16 +2,14 @@
 
 import random
 import unittest
-from fractions import Fraction
 
 from heardagain.errors import NoKind, TooMany, Unfit
 from heardagain.figures import leads
 from heardagain.moves import behind, is_of, lands, led, move_error
 from heardagain.places import best, hits, places, tally, whole
-from heardagain.points import figure_error
-from heardagain.scores import points_of, score_error
-from tests.helper import (KINDS, NO_KINDS, ODD_VALUES, STILL, as_move, check_call, check_examples, raised, same, same_error,
-                          some_moves)
+from heardagain.scores import points_of
+from tests.helper import (KINDS, NO_KINDS, ODD_VALUES, STILL, check_call, check_examples, flat, raised, same, same_error,
+                          score_at, some_cases, some_moves, told_hits, told_moves)
 
 EXAMPLES = """
     >>> from heardagain.places import best, hits, places, tally, whole
@@ -46,63 +44,13 @@ FIGURE = ((0, 0), (1, 2), (2, 1))
 TUNE = ((0, 0, 0, 1), (1, 2, 0, 1), (2, 1, 0, 1), (3, 3, 0, 1), (4, 2, 0, 1))
 PAIR = ((0, 0), (1, 0))
 DOZEN = tuple([(k * k, 0) for k in range(12)])
-
-
-def score_at(points):
-    """Return the score with a note at each of these points."""
-    return tuple([point + (0, 1) for point in sorted(set(points))])
-
-
-def flat(many, pitch=60):
-    """Return so many points of one pitch."""
-    return [(k, pitch) for k in range(many)]
-
-
 # Pairs of notes of one pitch: 992 + 6 + 2, each told by two moves of PAIR.
 JUST_2000 = score_at(flat(32) + flat(3, 61) + flat(2, 62))
-
-
-def told_hits(score, figure, move):
-    """Return the points of a figure that come to points of a score, worked out by fractions."""
-    q, t, e, v = move
-    heard = points_of(score)
-    return tuple([(x, y) for x, y in figure if (Fraction(*q) * x + Fraction(*t), e * y + v) in heard])
-
-
-def told_moves(score, figure):
-    """Return all moves by which two points of a figure with unlike onsets come to two points of a score."""
-    found = {}
-    heard = points_of(score)
-    for (x, y), (end, high) in [(a, b) for a in figure for b in figure if a[0] != b[0]]:
-        for (begin, low), (last, top) in [(a, b) for a in heard for b in heard if a[0] != b[0]]:
-            for e in (1, -1):
-                if top - low == e * (high - y):
-                    q = Fraction(last - begin, end - x)
-                    found[as_move(q, begin - q * x, e, low - e * y)] = True
-    return sorted(found)
 
 
 def told_places(score, figure):
     """Return all places of the kind all for 2, each with its hits."""
     return tuple([(move, told_hits(score, figure, move)) for move in told_moves(score, figure)])
-
-
-def some_cases(many, seed):
-    """Return so many pairs of a score and a figure that have places of all kinds, chords among them."""
-    dice = random.Random(seed)
-    found = []
-    while len(found) < many:
-        wide, high, step = dice.choice(((6, 4, 1), (8, 3, 1), (5, 3, 2), (12, 2, 1), (4, 6, 3)))
-        points = {(dice.randrange(wide) * dice.choice((1, step)), dice.randrange(high)) for _ in range(dice.randint(0, 9))}
-        figure = tuple(sorted({(dice.randint(-3, 3), dice.randint(-2, 2)) for _ in range(dice.randint(2, 5))}))
-        if dice.random() < 0.3:
-            # The figure itself stands in the score, by some move.
-            q, e = dice.choice((1, 1, 2, -1, -2)), dice.choice((1, 1, -1))
-            points.update([(q * x + 6, e * y + 2) for x, y in figure])
-        score = tuple(sorted({point + (voice, 1 + voice) for point in points for voice in dice.choice(((0,), (1, 3)))}))
-        if figure_error(figure) is None and score_error(score) is None:
-            found.append((score, figure))
-    return found
 
 
 class ExamplesTest(unittest.TestCase):
