@@ -222,3 +222,26 @@ def some_points(many, seed):
 # Rows of onsets whose points, all of one pitch, have just so many closed pairs.
 JUST_300 = (0, 1, 2, 4, 5, 6, 7, 8, 10, 11, 12, 13, 14, 15, 16, 18, 19)
 JUST_301 = (1, 5, 6, 7, 8, 9, 10, 12, 13, 14, 15, 16, 18, 19, 20, 21, 23)
+
+
+def sums(theme, shifts):
+    """Return all to which shifts lead the points of a theme."""
+    return {(x + dx, y + dy) for x, y in theme for dx, dy in shifts}
+
+
+def some_writings(many, seed):
+    """Return so many writings, in which themes lie over one another, stand several times, and are single points."""
+    dice = random.Random(seed)
+    found = [(), ((((0, 0),), ((3, 60),)),), ((((0, 0), (1, 0)), ((0, 0), (1, 0))),)]
+    while len(found) < many:
+        wide, high = dice.choice(((4, 1), (3, 3), (6, 2)))
+        themes = [((0, 0),)] + [
+            tuple(sorted({(0, 0)} | {(dice.randint(1, wide), dice.randint(-high, high)) for _ in range(dice.randint(0, 3))}))
+            for _ in range(dice.randint(1, 3))]
+        pairs = set()
+        for _ in range(dice.randint(1, 5)):
+            shifts = {(dice.randint(0, 9), 50 + dice.randint(0, high)) for _ in range(dice.randint(1, 4))}
+            pairs.add((dice.choice(themes), tuple(sorted(shifts))))
+        if len(set().union(*[sums(*pair) for pair in pairs])) <= 60:
+            found.append(tuple(sorted(pairs)))
+    return found

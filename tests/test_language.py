@@ -28,6 +28,11 @@ INTERFACE = {
                "closed_pairs": ["score"]},
     "fronts": {"lies_in": ["pair", "other"], "nearest_in": ["score"], "front": ["score"],
                "most_points": ["score", "many"], "most_places": ["score", "many"]},
+    "written": {"writing_error": ["points", "value"], "placed": ["writing"], "size": ["writing"],
+                "given_by": ["writing", "point"]},
+    "told": {"told_writing": ["points"], "least_writing": ["points"]},
+    "themes": {"with_theme": ["writing", "place", "theme"], "without": ["writing", "point"], "joined_up": ["writing"]},
+    "lines": {"line_of": ["score", "voice"], "followings": ["line", "other", "kind", "least"]},
 }
 
 LET_BUILTINS = """
