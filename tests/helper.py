@@ -2,6 +2,7 @@
 
 import copy
 import inspect
+import itertools
 import random
 from fractions import Fraction
 
@@ -244,4 +245,65 @@ def some_writings(many, seed):
             pairs.add((dice.choice(themes), tuple(sorted(shifts))))
         if len(set().union(*[sums(*pair) for pair in pairs])) <= 60:
             found.append(tuple(sorted(pairs)))
+    return found
+
+
+def told_keeps(pattern, notes):
+    """Return whether notes, one for each number, keep all rules and bounds of a pattern, as [I2] tells it."""
+    rules, bounds = pattern
+    for place, (of, low, high, pitches, voice) in enumerate(rules):
+        a, b = notes[of], notes[place + 1]
+        if not low <= b[0] - a[0] <= high or b[1] - a[1] not in pitches:
+            return False
+        if (voice == "same" and a[2] != b[2]) or (voice == "other" and a[2] == b[2]):
+            return False
+    return all(low <= notes[two][0] - notes[one][0] <= high for one, two, low, high in bounds)
+
+
+def told_places(score, pattern):
+    """Return all places of a pattern in a score, going through all rows of unlike notes."""
+    return tuple([row for row in itertools.permutations(score, len(pattern[0]) + 1) if told_keeps(pattern, row)])
+
+
+def some_window(dice, wide):
+    """Return the two ends of a window."""
+    low = dice.randint(-wide, wide)
+    return low, low + dice.randint(0, wide)
+
+
+def some_patterns(many, seed, wide=2, most=4):
+    """Return so many patterns with narrow windows, few pitches and few bounds."""
+    dice = random.Random(seed)
+    found = []
+    while len(found) < many:
+        rules = []
+        for place in range(dice.randint(1, most)):
+            pitches = tuple(sorted({dice.choice((0, 0, 1, 2, -2)) for _ in range(dice.randint(1, 3))}))
+            window = (0, 0) if dice.random() < 0.2 else some_window(dice, wide)
+            rules.append((dice.randint(0, place),) + window + (pitches, dice.choice(("same", "other", "any", "any"))))
+        bounds = []
+        for _ in range(dice.choice((0, 0, 1, 1, 2, 3))):
+            one, two = dice.sample(range(len(rules) + 1), 2)
+            bounds.append((one, two) + some_window(dice, wide + 1))
+        found.append((tuple(rules), tuple(bounds)))
+    return found
+
+
+def some_pattern_scores(many, pattern, seed):
+    """Return so many small scores; in most of them there are notes that keep at least the rules of the pattern."""
+    dice = random.Random(seed)
+    found = []
+    while len(found) < many:
+        notes = [(dice.randint(4, 8), dice.randint(60, 61), dice.randint(0, 2))]
+        for of, low, high, pitches, voice in pattern[0]:
+            onset, pitch, own = notes[of]
+            other = {"same": own, "other": (own + dice.randint(1, 3)) % 8, "any": dice.choice((own, 3))}[voice]
+            notes.append((onset + dice.randint(low, high), pitch + dice.choice(pitches), other))
+        if dice.random() < 0.2:
+            notes.pop(dice.randrange(len(notes)))
+        for _ in range(dice.randint(0, 2)):
+            notes.append((dice.randint(3, 9), dice.randint(59, 63), dice.randint(0, 3)))
+        score = tuple(sorted({(max(0, onset), pitch, voice, 1 + voice) for onset, pitch, voice in notes}))
+        if score_error(score) is None:
+            found.append(score)
     return found

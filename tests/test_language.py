@@ -33,6 +33,14 @@ INTERFACE = {
     "told": {"told_writing": ["points"], "least_writing": ["points"]},
     "themes": {"with_theme": ["writing", "place", "theme"], "without": ["writing", "point"], "joined_up": ["writing"]},
     "lines": {"line_of": ["score", "voice"], "followings": ["line", "other", "kind", "least"]},
+    "nears": {"near": ["pitches", "others", "prices"], "near_price": ["pitches", "others", "prices", "v"],
+              "near_paper": ["pitches", "others", "prices"],
+              "near_holds": ["pitches", "others", "prices", "price", "value"]},
+    "keys": {"steps": ["points", "width"], "flat_steps": ["points", "width"], "shared_steps": ["some", "others"],
+             "need": ["figure", "least", "width", "kind"]},
+    "sieves": {"sieve": ["scores", "figure", "least", "width", "kind"],
+               "sifted": ["scores", "figure", "least", "width", "kind"]},
+    "patterns": {"pattern_error": ["value"], "places_of": ["score", "pattern"]},
 }
 
 LET_BUILTINS = """
