@@ -50,13 +50,13 @@ def _joined(integers, sign):
 
 
 def _read_integers(text, sign):
-    return tuple([_read_integer(word) for word in text.split(sign)])
+    return tuple([read_integer(word, MOST_DIGITS) for word in text.split(sign)])
 
 
-def _read_integer(word):
-    """Return the integer that is written just as word, None if there is none that could stand in a score."""
+def read_integer(word, most):
+    """Return the integer that is written just as word, None if there is none with so many digits at most."""
     digits = word[1:] if word.startswith("-") else word
-    if len(digits) > MOST_DIGITS or not digits.isdecimal():
+    if len(digits) > most or not digits.isdecimal():
         return None
     integer = int(word)
     # Noughts ahead and "-0" are read by Python, but not written so.

@@ -1,6 +1,7 @@
 """What several tests use: the examples of the document, wrong values, and calls that are watched."""
 
 import copy
+import functools
 import inspect
 import itertools
 import random
@@ -262,7 +263,15 @@ def told_keeps(pattern, notes):
 
 def told_places(score, pattern):
     """Return all places of a pattern in a score, going through all rows of unlike notes."""
-    return tuple([row for row in itertools.permutations(score, len(pattern[0]) + 1) if told_keeps(pattern, row)])
+    many = len(pattern[0]) + 1
+    if many > 4:
+        # There are so many rows that those which break the first two rules are left out ahead of the others.
+        first = (pattern[0][:2], ())
+        rows = [row + rest for row in itertools.permutations(score, 3) if told_keeps(first, row)
+                for rest in itertools.permutations([note for note in score if note not in row], many - 3)]
+    else:
+        rows = itertools.permutations(score, many)
+    return tuple([row for row in rows if told_keeps(pattern, row)])
 
 
 def some_window(dice, wide):
@@ -307,3 +316,47 @@ def some_pattern_scores(many, pattern, seed):
         if score_error(score) is None:
             found.append(score)
     return found
+
+
+def plainly(notes):
+    """Return the score with these notes told plainly, by all ways of renaming its voices."""
+    first, low = min([note[0] for note in notes]), min([note[1] for note in notes])
+    voices = sorted({note[2] for note in notes})
+    return min([tuple(sorted([(note[0] - first, note[1] - low, names[voices.index(note[2])], 1) for note in notes]))
+                for names in itertools.permutations(range(len(voices)))])
+
+
+def told_rows(pattern):
+    """Return all rows of unlike notes that keep a pattern, the first note being (0, 0, 0)."""
+    rows = [((0, 0, 0),)]
+    for of, low, high, pitches, voice in pattern[0]:
+        rows = [row + ((row[of][0] + later, row[of][1] + pitch, own),) for row in rows for later in range(low, high + 1)
+                for pitch in pitches for own in range(len(pattern[0]) + 1)
+                if voice == "any" or (voice == "same") == (own == row[of][2])]
+        rows = [row for row in rows if row[-1] not in row[:-1]]
+    return [row for row in rows if told_keeps(pattern, row)]
+
+
+@functools.lru_cache(maxsize=None)
+def told_singles(pattern):
+    """Return all singles of a pattern with narrow windows, going through all rows of notes."""
+    lots = {frozenset(row) for row in told_rows(pattern)}
+    return tuple(sorted({plainly(sorted(lot)) for lot in lots}))
+
+
+def told_onsets(pattern):
+    """Return all rows of onsets that keep the rules and the bounds of a pattern, the first one being 0."""
+    rows = [(0,)]
+    for of, low, high, _, _ in pattern[0]:
+        rows = [row + (row[of] + later,) for row in rows for later in range(low, high + 1)]
+    return [row for row in rows if all(low <= row[two] - row[one] <= high for one, two, low, high in pattern[1])]
+
+
+# Values that are no pattern, each with what is told of it.
+NO_PATTERNS = (
+    (None, "form"), ([], "form"), ((), "form"), ("ab", "form"), (((), ()), "rules"), (((None,) * 5, None), "rules"),
+    (([(0, 1, 2, (2,), "same")], ()), "rules"), (((None,), None), ("rule", 0)),
+    ((((0, 1, 2, (2,), "same"), (2, 1, 2, (2,), "same")), ()), ("rule", 1)),
+    ((((0, 1, True, (2,), "same"),), ()), ("rule", 0)), ((((0, 1, 2, (2,), "same"),), [(0, 1, 1, 1)]), "bounds"),
+    ((((0, 1, 2, (2,), "same"),), ((0, 1, 1, 1), (0, 0, 1, 1))), ("bound", 1)), ({"a": 1}, "form"), (True, "form"),
+)

@@ -3,6 +3,7 @@
 import ast
 import builtins
 import importlib
+import inspect
 import pathlib
 import re
 import unittest
@@ -41,6 +42,21 @@ INTERFACE = {
     "sieves": {"sieve": ["scores", "figure", "least", "width", "kind"],
                "sifted": ["scores", "figure", "least", "width", "kind"]},
     "patterns": {"pattern_error": ["value"], "places_of": ["score", "pattern"]},
+    "singles": {"singles": ["pattern"], "ring": ["pattern"], "ring_holds": ["pattern", "value"]},
+    "withins": {"within": ["pattern", "other"], "alike_patterns": ["pattern", "other"],
+                "at_one_note": ["pattern", "one", "other", "two"]},
+}
+# The classes, each with its file, the arguments of its methods and its properties.
+CLASSES = {
+    "Kept": ("kept", {"__init__": ["score"], "put": ["note"], "cut": ["note"],
+                      "stand": ["name", "figure", "kind", "least"], "drop": ["name"], "places": ["name"],
+                      "news": ["since"], "closed": []}, ["score", "version", "steps", "looks"]),
+    "Bench": ("benches", {"__init__": [], "__len__": [], "__getitem__": ["name"], "__iter__": [], "__eq__": ["other"],
+                          "search": ["figure", "kind", "least"], "add": ["name", "score"], "drop": ["name"],
+                          "put": ["name", "note"], "cut": ["name", "note"], "shift": ["name", "later", "higher"],
+                          "batch": ["edits"], "undo": [], "redo": [], "at": ["version"], "copy": [],
+                          "attempt": ["work"]}, ["shelf", "version"]),
+    "Shell": ("shells", {"__init__": [], "say": ["line"]}, []),
 }
 
 LET_BUILTINS = """
@@ -54,8 +70,8 @@ LET_METHODS = """
     join keys ljust lower lstrip partition pop remove replace reverse rfind rjust rpartition rsplit rstrip setdefault
     split splitlines startswith strip update upper values zfill bit_length isascii isdecimal
 """.split()
-LET_LIBRARY = {"heapq": ("heappush", "heappop", "heapify"), "math": ("gcd", "lcm", "isqrt", "comb"),
-               "itertools": ("product", "combinations", "permutations")}
+# No itertools: what of it may stand elsewhere may not stand beside a class with __len__ that is iterated over.
+LET_LIBRARY = {"math": ("gcd", "lcm", "isqrt", "comb")}
 BARRED_NODES = (ast.GeneratorExp, ast.Global, ast.AsyncFunctionDef, ast.Await, ast.Div, ast.Import)
 BARRED_WORDS = ("type", "typing", "enum", "Enum", "Generic", "Protocol", "ABC", "namedtuple", "open", "input", "law",
                 "register", "mro", "elements", "chr", "eval", "exec", "compile", "vars", "dir", "help", "id", "os", "sys")
@@ -176,6 +192,41 @@ class CodeTest(unittest.TestCase):
                 if isinstance(node, ast.Call) and isinstance(node.func, ast.Attribute):
                     self.assertIn(node.func.attr, LET_METHODS + own, path)
 
+    def test_classes(self):
+        for path in FILES:
+            for shape in ast.walk(tree_of(path)):
+                if isinstance(shape, ast.FunctionDef):
+                    told = [ast.unparse(one) for one in shape.decorator_list]
+                    self.assertIn(told, ([], ["property"]), (path, shape.name))
+                if isinstance(shape, ast.ClassDef):
+                    self.assertLessEqual(len(shape.bases), 1, (path, shape.name))
+                    self.assertEqual(shape.decorator_list, [], (path, shape.name))
+                    for node in shape.body:
+                        docstring = isinstance(node, ast.Expr) and isinstance(node.value, ast.Constant)
+                        self.assertTrue(docstring or isinstance(node, ast.FunctionDef), (path, shape.name))
+
+    def test_errors_that_are_caught_are_own_ones(self):
+        own = defined(tree_of(FOLDER / "errors.py"))
+        for path in FILES:
+            for node in ast.walk(tree_of(path)):
+                if isinstance(node, ast.ExceptHandler):
+                    self.assertIsInstance(node.type, ast.Name, path)
+                    self.assertIn(node.type.id, own, path)
+                if isinstance(node, ast.Raise):
+                    self.assertTrue(node.exc is None or isinstance(node.exc, ast.Call), path)
+
+    def test_sets(self):
+        # A class has a method add, so no set is added to; and no set is sorted by a key.
+        for path in FILES:
+            for node in ast.walk(tree_of(path)):
+                if isinstance(node, ast.Call) and isinstance(node.func, ast.Attribute):
+                    self.assertNotIn(node.func.attr, ("discard", "union", "intersection", "sort"), path)
+                    if node.func.attr == "add":
+                        self.assertEqual(ast.unparse(node.func.value), "bench", path)
+                if isinstance(node, ast.Call) and isinstance(node.func, ast.Name) and node.func.id == "sorted":
+                    if isinstance(node.args[0], (ast.Set, ast.SetComp)) or ast.unparse(node.args[0]).startswith("set("):
+                        self.assertEqual(node.keywords, [], path)
+
     def test_sets_are_not_iterated(self):
         # A set is made only to be asked, sorted or measured; each one is written as set(..) or in braces.
         for path in FILES:
@@ -195,6 +246,29 @@ class InterfaceTest(unittest.TestCase):
                 self.assertEqual(found.get(function), arguments, (name, function))
                 module = importlib.import_module(f"heardagain.{name}")
                 self.assertEqual(getattr(module, function).__module__, f"heardagain.{name}")
+
+    def test_classes_stand_in_their_files(self):
+        for name, (file, methods, properties) in CLASSES.items():
+            shape = getattr(importlib.import_module(f"heardagain.{file}"), name)
+            self.assertEqual(shape.__module__, f"heardagain.{file}")
+            for method, arguments in methods.items():
+                found = inspect.signature(vars(shape)[method]).parameters.values()
+                self.assertEqual([one.name for one in found], ["self"] + arguments, (name, method))
+                for one in found:
+                    self.assertEqual((one.kind, one.default), (one.POSITIONAL_OR_KEYWORD, one.empty), (name, method))
+            for own in properties:
+                self.assertIsInstance(vars(shape)[own], property, (name, own))
+                self.assertIsNone(vars(shape)[own].fset, (name, own))
+            told = [own for own in vars(shape) if not own.startswith("_")]
+            self.assertEqual(sorted(told), sorted([own for own in methods if own[0] != "_"] + properties))
+
+    def test_all_files_of_the_interface(self):
+        told = list(INTERFACE) + [file for file, _, _ in CLASSES.values()] + ["bounds", "errors"]
+        for name in told:
+            self.assertTrue((FOLDER / f"{name}.py").is_file(), name)
+        # As the interface of the document counts its files.
+        self.assertEqual(len(told), len(set(told)))
+        self.assertEqual(len(told), 25)
 
 
 if __name__ == "__main__":
