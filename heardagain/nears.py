@@ -7,7 +7,7 @@ def near(pitches, others, prices):
     """Return the least price of a near way for any v, with a v and the run of a near way of this price."""
     # For a v that is no difference nothing is kept, so no such v is cheaper than 0.
     raisings = sorted(set([0] + _differences(pitches, others)))
-    price, v = min([(near_price(pitches, others, prices, v), v) for v in raisings])
+    price, v = min([(near_price(pitches, others, prices, raising), raising) for raising in raisings])
     begin = _table(pitches, others, prices, v)[0].index(price)
     return (price, v, begin, _end(pitches, others, prices, v, begin))
 

@@ -119,7 +119,7 @@ def _told_plainly(onsets, pitches, voices):
     own = {(x - first, y - low, voice): True for x, y, voice in zip(onsets, pitches, voices)}
     points = sorted({note[:2] for note in own})
     # The score is least if each voice comes ahead of those that do not have the first point that just one of both has.
-    order = sorted(voices, key=lambda voice: [point + (voice,) not in own for point in points])
+    order = sorted(voices, key=lambda own_voice: [point + (own_voice,) not in own for point in points])
     names = {}
     for voice in order:
         names[voice] = names.get(voice, len(names))

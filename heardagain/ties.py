@@ -3,9 +3,6 @@
 from heardagain.basics import is_integer, is_tuple_of
 from heardagain.bounds import MAX_STEP, MAX_VARIABLES
 
-# The rules tie each number to an earlier one, so no two notes of a place are so far apart.
-BEYOND = MAX_STEP * MAX_VARIABLES
-
 
 def ties_of(pattern):
     """Return the ties of a pattern, first those of its rules, each one two ways."""
@@ -24,7 +21,9 @@ def latest_of(pattern):
     It is None if the ties can't be kept together.
     """
     many = len(pattern[0]) + 1
-    latest = tuple([tuple([0 if one == two else BEYOND for two in range(many)]) for one in range(many)])
+    # The rules tie each number to an earlier one, so no two notes of a place are so far apart.
+    beyond = MAX_STEP * MAX_VARIABLES
+    latest = tuple([tuple([0 if one == two else beyond for two in range(many)]) for one in range(many)])
     for tie in ties_of(pattern):
         if latest is not None:
             latest = tied(latest, tie)
@@ -40,7 +39,7 @@ def tied(latest, tie):
 
 
 def _row_tied(row, most, further):
-    """Return a row of latest, if the number of the row further can be later by most at most."""
+    """Return a row of latest as it becomes if the number that has the row further is later by most at most."""
     return tuple([min(own, most + more) for own, more in zip(row, further)])
 
 
@@ -60,7 +59,7 @@ def ring_of(pattern):
 
 def are_ring(ties, value):
     """Return whether value is a tuple of some of these ties that goes round, with a sum below 0."""
-    if not isinstance(value, tuple) or not value:
+    if not isinstance(value, tuple):
         return False
     for item in value:
         if not is_tuple_of(item, 3) or not all([is_integer(part) for part in item]) or item not in ties:

@@ -57,7 +57,7 @@ NO_NOTES = ODD_VALUES + ([0, 60, 0, 1], (0, 60, 0), (0, 60, 0, 1, 1), (0, 60, 0,
                          (True, 60, 0, 1), ("0", 60, 0, 1), (None, 60, 0, 1), ((0, 60, 0, 1),), (HUGE, 60, 0, 1))
 NO_NAMES = tuple([value for value in ODD_VALUES if value != "abc"]) + (
     "", "Up", "UP", "up ", " up", "u p", "u1", "up1", "u-p", "u_p", "up\n", "ninechars", "abcdefghi", "1", "_",
-    ("up",), ["up"], {"up": 1}, "a" * 9, "{", "`", "@", "[")
+    ("up",), ["up"], {"up": 1}, "a" * 9, "{", "`", "@", "[", "\u00e9", "a\u00df", "\u03b1")
 
 
 def state_of(kept):

@@ -231,6 +231,24 @@ class RingTest(unittest.TestCase):
             self.assertIsNone(ring((rules, ((0, many, many, many),))))
             self.assertIsNone(ring((rules, ((many, 0, -many, -many),))))
 
+    def test_rings_among_any_numbers(self):
+        chain = tuple([(place, 1, 1, (0,), "same") for place in range(4)])
+        star = ((0, 1, 1, (0,), "any"), (0, 2, 2, (0,), "any"), (0, 3, 3, (0,), "any"), (0, 4, 4, (0,), "any"))
+        for rules in (chain, star):
+            for one in range(5):
+                for two in range(5):
+                    for more in (-1, 1, 9):
+                        if one != two:
+                            pattern = (rules, ((one, two, two - one + more, two - one + more),))
+                            self.assertTrue(told_is_ring(pattern, ring(pattern)))
+        for one, two, three in ((0, 1, 2), (1, 2, 3), (2, 3, 4), (4, 2, 1), (1, 3, 4), (4, 3, 0)):
+            bounds = ((one, two, 1, 3), (two, three, 1, 3), (three, one, -1, 3))
+            pattern = (((0, -48, 48, (0,), "any"),) * 4, bounds)
+            self.assertTrue(told_is_ring(pattern, ring(pattern)))
+            self.assertIsNone(ring((pattern[0], bounds[:2] + ((three, one, -2, 3),))))
+            around = (((0, -48, 48, (0,), "any"),) * 4, bounds[:1] + ((two, three, 1, 1), (three, one, 0, 0)))
+            self.assertTrue(told_is_ring(around, ring(around)))
+
     def test_sums_of_just_0_and_one_less(self):
         rules = ((0, 0, 5, (1,), "same"), (0, 0, 5, (2,), "same"))
         for low, high, wanted in ((5, 9, True), (6, 9, False), (-5, -5, True), (-9, -6, False), (-9, -5, True)):

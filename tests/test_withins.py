@@ -242,6 +242,10 @@ class AtOneNoteTest(unittest.TestCase):
             self.assertEqual(self.check(tall, 4, climb(24, last), 0), wanted)
             self.assertEqual(self.check(climb(24, last), 2, tall, 0), wanted)
         # Of two pitches that a rule lets the one will do.
+        for steps in (((20, 24), (8,)), ((8,), (20, 24)), ((-2, 24), (-2, 8), (20,))):
+            some = (tuple([(place, 1, 1, step, "same") for place, step in enumerate(steps)]), ())
+            self.assertTrue(self.check(tall, 4, some, 0))
+            self.assertTrue(self.check(some, 0, tall, 4))
         either = (((0, 1, 1, (7, 24), "any"), (1, 1, 1, (-24, 24), "any")), ())
         self.assertTrue(self.check(tall, 4, either, 0))
         self.assertTrue(self.check(tall, 0, (((0, 1, 1, (-24, -7), "any"), (1, 1, 1, (-24, 24), "any")), ()), 0))
